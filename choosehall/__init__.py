@@ -1,0 +1,1 @@
+"""Choosehall: an office that gives places."""
