@@ -23,6 +23,9 @@ BitXor LShift RShift Compare Eq NotEq Lt LtE Gt GtE Is IsNot In NotIn JoinedStr 
 WORDS = """type typing typing_extensions enum Enum IntEnum StrEnum Flag IntFlag Generic Protocol ABC ABCMeta
 namedtuple NamedTuple TypedDict TYPE_CHECKING abstractmethod""".split()
 PARTS = ["dataclass", "overload", "contextmanager"]
+WALKED_AT_ONCE = ["zip", "enumerate", "reversed", "range", "items", "keys", "values"]
+WALKERS = ["list", "tuple", "dict", "sorted", "sum", "any", "all", "enumerate", "zip", "min", "max", "join"]
+SET_HOLDERS = ["sorted", "len"]
 
 
 def names_bound(tree):
@@ -39,6 +42,22 @@ def names_bound(tree):
         elif isinstance(node, ast.alias):
             bound.append(node.asname or node.name)
     return bound
+
+
+def called_name(node):
+    # The name of what is called, be it a function or a method; None where the node is no call.
+    if not isinstance(node, ast.Call):
+        return None
+    return node.func.attr if isinstance(node.func, ast.Attribute) else getattr(node.func, "id", None)
+
+
+def drawn_from(path):
+    tree = ast.parse(path.read_text(encoding="ascii"))
+    return sorted(node.module.split(".")[-1] for node in tree.body if isinstance(node, ast.ImportFrom))
+
+
+def above(tree):
+    return {child: parent for parent in ast.walk(tree) for child in ast.iter_child_nodes(parent)}
 
 
 class Form(unittest.TestCase):
@@ -67,6 +86,14 @@ class Form(unittest.TestCase):
             for alias in node.names:
                 self.assertIn(alias.name, defined, file)
 
+    def test_no_two_files_draw_from_one_another(self):
+        left = {path.stem: drawn_from(path) for path in FILES}
+        while left:
+            # A file that draws from none of those left can go; where none can, some draw from one another in a ring.
+            free = [name for name in left if not any(source in left for source in left[name])]
+            self.assertNotEqual(free, [], left)
+            left = {name: left[name] for name in left if name not in free}
+
     def test_no_kind_of_row_or_value_but_the_listed_ones(self):
         for file, tree, node in self.walked():
             self.assertIn(type(node).__name__, NODES, (file, getattr(node, "lineno", 0)))
@@ -85,6 +112,40 @@ class Form(unittest.TestCase):
                 if name not in OWN_DUNDERS:
                     self.assertNotIn(name, dir(builtins), path.name)
                     self.assertRegex(name, r"\A[A-Za-z][A-Za-z0-9_]*\Z", path.name)
+
+    def test_no_parameter_or_local_is_called_like_a_class_or_import(self):
+        for path in FILES:
+            tree = ast.parse(path.read_text(encoding="ascii"))
+            tops = [name for row in tree.body for name in names_bound(row) if isinstance(row, ast.ImportFrom)]
+            tops += [row.name for row in tree.body if isinstance(row, (ast.ClassDef, ast.FunctionDef))]
+            self.assertEqual(len(tops), len(set(tops)), path.name)
+            for node in ast.walk(tree):
+                if isinstance(node, ast.arg):
+                    self.assertNotIn(node.arg, tops, path.name)
+                elif isinstance(node, ast.Name) and isinstance(node.ctx, ast.Store):
+                    self.assertNotIn(node.id, tops, path.name)
+
+    def test_no_name_is_a_method_and_a_value(self):
+        bodies = [node.body for file, tree, node in self.walked(ast.ClassDef)]
+        methods = [row.name for body in bodies for row in body if isinstance(row, ast.FunctionDef)]
+        for file, tree, node in self.walked(ast.Attribute):
+            if isinstance(node.ctx, ast.Store):
+                self.assertNotIn(node.attr, methods, (file, node.lineno))
+
+    def test_what_python_walks_is_walked_at_once(self):
+        for file, tree, node in self.walked(ast.Call):
+            if called_name(node) in WALKED_AT_ONCE:
+                parent = above(tree)[node]
+                looped = isinstance(parent, (ast.For, ast.comprehension)) and parent.iter is node
+                handed = called_name(parent) in WALKERS and parent.args[0] is node
+                self.assertTrue(looped or handed, (file, node.lineno))
+
+    def test_sets_are_not_kept(self):
+        for file, tree, node in self.walked(ast.Call):
+            if called_name(node) in ("set", "frozenset"):
+                parent = above(tree)[node]
+                asked = isinstance(parent, ast.Compare)
+                self.assertTrue(asked or called_name(parent) in SET_HOLDERS, (file, node.lineno))
 
     def test_only_listed_or_own_methods_are_called(self):
         own = [node.name for file, tree, node in self.walked(ast.FunctionDef)]

@@ -5,33 +5,7 @@ import itertools
 import unittest
 
 from choosehall.houses import House
-
-
-def plain_house(seats, points, row=None):
-    # No seat is kept, so that only points and row count.
-    comers = len(points)
-    return House(seats, 0, 0, False, points, [0] * comers, list(range(comers)) if row is None else row)
-
-
-def by_hand(seats, kept, kind, opened, points, kinds, row, comers):
-    # Points 5 and 6 told seat by seat, with none of the program's own steps.
-    waiting = [comer for comer in row if comer in comers and points[comer] is not None]
-    inside = []
-
-    def seat_best(able):
-        if able:
-            best = max(able, key=lambda comer: (points[comer], -row.index(comer)))
-            waiting.remove(best)
-            inside.append(best)
-        return bool(able)
-
-    empty = 0
-    for seat in range(kept):
-        if not seat_best([comer for comer in waiting if kinds[comer] == kind]):
-            empty += 1
-    for seat in range(seats - kept + (empty if opened else 0)):
-        seat_best(waiting)
-    return sorted(inside)
+from worlds import chosen_by_hand, plain_house
 
 
 def assert_new_each_time(case, asked, comers):
@@ -212,7 +186,7 @@ class Choosing(unittest.TestCase):
             told = made[0] + made[1:]
             house = House(*told)
             for comers in groups:
-                if house.chosen(comers[::-1]) != by_hand(*told, comers):
+                if house.chosen(comers[::-1]) != chosen_by_hand(*told, comers):
                     self.fail(f"House{told}.chosen({comers})")
 
 
